@@ -1,54 +1,44 @@
 """The greatest round: as many orders as can go at once, by the queue's order."""
 
-from clearyard.errors import NoOrders
-from clearyard.orders import is_order
-from clearyard.words import is_list, is_name, is_number, is_pair, is_whole
+from clearyard.orders import look_at_round
+from clearyard.words import is_number, is_pair
 
 MOST_ORDERS = 60
 
 
 def greatest(free, orders):
     """The places of the greatest set that stands, and the paper that shows it."""
-    _look_at(free, orders)
-    have = _have_by_all(free, orders)
+    look_at_round(free, orders, MOST_ORDERS)
+    have = have_by_all(free, orders)
     left = _places_by_payer(orders)
     paper = []
-    below = _first_below(have)
+    below = first_below(have)
     # What a payer can't pay with all that is left it can't pay with less: its last one goes.
     while below is not None:
         place = left[below].pop()
         _undo(have, orders[place])
         paper.append(place)
-        below = _first_below(have)
+        below = first_below(have)
     places = [place for place in range(len(orders)) if place not in paper]
     return places, tuple(paper)
 
 
 def shows_greatest(free, orders, told):
     """Whether told is the greatest set that stands, with a paper of it."""
-    _look_at(free, orders)
+    look_at_round(free, orders, MOST_ORDERS)
     if not _parts_places(told, len(orders)):
         return False
-    have = _have_by_all(free, orders)
+    have = have_by_all(free, orders)
     left = _places_by_payer(orders)
     for place in told[1]:
         payer = orders[place][1]
         if left[payer].pop() != place or have[payer] >= 0:
             return False
         _undo(have, orders[place])
-    return _first_below(have) is None
+    return first_below(have) is None
 
 
-def _look_at(free, orders):
-    if not isinstance(free, dict) or not is_list(orders) or len(orders) > MOST_ORDERS:
-        raise NoOrders()
-    if not all([is_name(name) and is_whole(number) for name, number in free.items()]):
-        raise NoOrders()
-    if not all([is_order(order) for order in orders]):
-        raise NoOrders()
-
-
-def _have_by_all(free, orders):
+def have_by_all(free, orders):
     """What each name has when all orders go at once."""
     have = dict(free)
     for order in orders:
@@ -65,7 +55,7 @@ def _places_by_payer(orders):
     return left
 
 
-def _first_below(have):
+def first_below(have):
     """A name that has less than 0, None where there is none."""
     for name, number in have.items():
         if number < 0:

@@ -6,17 +6,19 @@ import pathlib
 import unittest
 
 import clearyard
-from clearyard import errors, greatest, holds, ledger, orders, queues
+from clearyard import bests, clearing, errors, greatest, holds, ledger, orders, queues, states
 
 FOLDER = pathlib.Path(clearyard.__file__).parent
 
 # The files in DOC.md's order: each uses those ahead of it alone.
-FILES = ("errors", "words", "ledger", "holds", "orders", "queues", "greatest")
+FILES = ("errors", "words", "ledger", "holds", "orders", "queues", "greatest", "bests", "clearing", "states")
 
 FUNCTIONS = {
     ledger: {"ledger_of": ["rows"]},
     orders: {"is_order": ["thing"]},
     greatest: {"greatest": ["free", "orders"], "shows_greatest": ["free", "orders", "told"]},
+    bests: {"best": ["free", "orders"], "shows_best": ["free", "orders", "told"]},
+    states: {"is_state": ["thing"], "worth": ["state"], "state_text": ["state"], "read_state": ["text"]},
 }
 
 CLASSES = {
@@ -33,6 +35,10 @@ CLASSES = {
     queues.Queue: {
         "__init__": [], "add": ["order"], "drop": ["number"], "orders": [], "due": ["time"], "over": ["time"],
         "settle": ["numbers"],
+    },
+    clearing.Clearing: {
+        "__init__": ["ledger"], "add": ["order"], "drop": ["number"], "on": ["time"], "round": ["how"], "rounds": [],
+        "queue": [], "now": [],
     },
 }
 
@@ -86,9 +92,33 @@ class Form(unittest.TestCase):
                     self.assertLess(FILES.index(name), FILES.index(path.stem))
                     there = ast.parse((FOLDER / (name + ".py")).read_text()).body
                     defined = [each.name for each in there if isinstance(each, (ast.FunctionDef, ast.ClassDef))]
+                    defined += [each.targets[0].id for each in there if isinstance(each, ast.Assign)]
                     for alias in node.names:
                         self.assertIn(alias.name, defined)
                         self.assertIsNone(alias.asname)
+
+    def test_what_is_imported_is_used_and_means_one_thing(self):
+        for path, tree in trees():
+            imported = [alias.name for node in tree.body if isinstance(node, ast.ImportFrom) for alias in node.names]
+            classes = [node.name for node in tree.body if isinstance(node, ast.ClassDef)]
+            used = [node.id for node in ast.walk(tree) if isinstance(node, ast.Name) and isinstance(node.ctx, ast.Load)]
+            self.assertEqual([name for name in imported if name not in used], [], path)
+            self.assertEqual(len(imported), len(set(imported)), path)
+            for node in ast.walk(tree):
+                if isinstance(node, ast.arg):
+                    self.assertNotIn(node.arg, imported + classes, path)
+                if isinstance(node, ast.Name) and not isinstance(node.ctx, ast.Load):
+                    self.assertNotIn(node.id, imported + classes, path)
+
+    def test_no_name_is_both_a_method_and_an_attribute(self):
+        for path, tree in trees():
+            for each in tree.body:
+                if isinstance(each, ast.ClassDef):
+                    methods = [node.name for node in each.body if isinstance(node, ast.FunctionDef)]
+                    self.assertEqual(len(methods), len(set(methods)), path)
+                    for node in ast.walk(each):
+                        if isinstance(node, ast.Attribute) and isinstance(node.ctx, ast.Store):
+                            self.assertNotIn(node.attr, methods, path)
 
     def test_sizes_and_signs(self):
         for path, tree in trees():

@@ -1,4 +1,4 @@
-"""[3], [10]: what numbers, names, amounts, times, lists and pairs are."""
+"""[3], [10], [71]: what numbers, amounts, times, names, keys, secrets, lists and pairs are."""
 
 import unittest
 
@@ -35,6 +35,25 @@ class Words(Case):
         for sign in [chr(code) for code in range(32, 127)]:
             self.assertIs(words.is_name("a" + sign), "a" <= sign <= "z", sign)
             self.assertIs(words.is_name(sign), "a" <= sign <= "z", sign)
+
+    def test_digest(self):
+        self.just(words.is_digest, [0, 1, MOST + 1, 10 ** 30 - 1, 10 ** 30], [*NOT_TIMES, 10 ** 30 + 1, 10 ** 39])
+
+    def test_keys_and_secrets(self):
+        spoiled = [thing for thing in NOT_NAMES if thing not in ("abcdefghi", "toolongname")]
+        for told in (words.is_key, words.is_secret):
+            self.just(told, ["a", "z", "ann", "abcdefghi", "toolongname", "z" * 20], [*spoiled, "z" * 21, "a" * 19 + "A", "a" * 19 + " "])
+            for sign in [chr(code) for code in range(32, 127)]:
+                self.assertIs(told("a" + sign), "a" <= sign <= "z", sign)
+
+    def test_read_number(self):
+        for number in (0, 1, 9, 10, 99, 100, 10 ** 39):
+            self.assertEqual(repr(words.read_number(str(number))), repr(number))
+        for word in ("", " ", "00", "01", "007", "+1", "-1", "-0", "1 ", " 1", "1.0", "1e3", "1_0", "x", "1x", "0x1", "True", "\n", "1\n", "\u00b2", "\u0661"):
+            self.assertIsNone(words.read_number(word), word)
+        self.assertEqual(words.read_number("9" * 900), 10 ** 900 - 1)
+        for many in (901, 4300, 4301, 8000):
+            self.assertIsNone(words.read_number("9" * many))
 
     def test_list(self):
         self.just(words.is_list, [[], (), [1], (1, 2)], NOT_LISTS)
