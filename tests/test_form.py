@@ -6,12 +6,15 @@ import pathlib
 import unittest
 
 import clearyard
-from clearyard import bests, clearing, errors, greatest, holds, ledger, orders, queues, states
+from clearyard import bests, clearing, courts, errors, greatest, holds, ledger, moves, orders, partners, queues, seals, states
 
 FOLDER = pathlib.Path(clearyard.__file__).parent
 
 # The files in DOC.md's order: each uses those ahead of it alone.
-FILES = ("errors", "words", "ledger", "holds", "orders", "queues", "greatest", "bests", "clearing", "states")
+FILES = (
+    "errors", "words", "ledger", "holds", "orders", "queues", "greatest", "bests", "clearing", "states", "moves", "seals", "courts",
+    "partners",
+)
 
 FUNCTIONS = {
     ledger: {"ledger_of": ["rows"]},
@@ -19,6 +22,11 @@ FUNCTIONS = {
     greatest: {"greatest": ["free", "orders"], "shows_greatest": ["free", "orders", "told"]},
     bests: {"best": ["free", "orders"], "shows_best": ["free", "orders", "told"]},
     states: {"is_state": ["thing"], "worth": ["state"], "state_text": ["state"], "read_state": ["text"]},
+    moves: {"moved": ["state", "party", "move", "digest"], "mover": ["state"]},
+    seals: {
+        "is_sealed": ["thing", "keys", "digest"], "lock_of": ["secret", "digest"], "seal_of": ["state", "key", "digest"],
+    },
+    partners: {"partner_of": ["told", "good", "digest"]},
 }
 
 CLASSES = {
@@ -39,6 +47,16 @@ CLASSES = {
     clearing.Clearing: {
         "__init__": ["ledger"], "add": ["order"], "drop": ["number"], "on": ["time"], "round": ["how"], "rounds": [],
         "queue": [], "now": [],
+    },
+    courts.Court: {
+        "__init__": ["ledger", "digest"], "found": ["one", "other", "x", "y", "keys", "wait"], "post": ["sealed"],
+        "leave": ["number"], "agree": ["number", "x", "y", "seals"], "show": ["secret"], "on": ["time"], "now": [], "board": [],
+        "pools": [], "opened": ["lock", "until"],
+    },
+    partners.Partner: {
+        "__init__": ["pool", "party", "x", "y", "key", "good", "digest"], "learn": ["secret"], "offer": ["move", "now"],
+        "hear": ["message", "pools", "board", "now"], "state": [], "waiting": [], "sealed": [], "again": [], "knows": [],
+        "sure": ["pools", "board", "now"], "told": [], "twin": [], "answer": ["pools", "board", "now"],
     },
 }
 
