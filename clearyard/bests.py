@@ -70,7 +70,7 @@ def _rank(orders, places):
 
 def _reach(orders, node):
     """What was chosen and all yet to choose: every other set behind a node has less."""
-    return [*node[2], *range(node[0], len(orders))]
+    return node[2] + list(range(node[0], len(orders)))
 
 
 def _beaten(orders, node, places):

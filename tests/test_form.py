@@ -160,6 +160,14 @@ class Form(unittest.TestCase):
                 if isinstance(node, ast.ExceptHandler):
                     self.assertIsNotNone(node.type, path)
 
+    def test_what_a_star_stands_before(self):
+        for path, tree in trees():
+            for node in ast.walk(tree):
+                if isinstance(node, ast.Starred) and isinstance(node.value, ast.Call):
+                    called = node.value.func
+                    name = called.id if isinstance(called, ast.Name) else called.attr
+                    self.assertNotIn(name, ("range", "zip", "enumerate", "reversed", "items", "keys", "values", "set"), path)
+
     def test_builtins(self):
         everything = set(dir(__builtins__)) if not isinstance(__builtins__, dict) else set(__builtins__)
         for path, tree in trees():
