@@ -76,6 +76,12 @@ class Clearing:
         """The time."""
         return self._now
 
+    def stand_as(self, other):
+        """From now on it stands as another one, at a ledger that stands as the other's."""
+        self._queue.stand_as(other._queue)
+        self._now = other._now
+        self._rounds = list(other._rounds)
+
     def _free_of(self, orders):
         """What the names of orders have free, rising."""
         names = [name for order in orders for name in order[1:3]]

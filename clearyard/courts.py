@@ -105,6 +105,13 @@ class Court:
         """The least secret of that lock that was shown ahead of until, None."""
         return opener(self._board, lock, until, self._digest)
 
+    def stand_as(self, other):
+        """From now on it stands as another one, at a ledger that stands as the other's."""
+        self._now = other._now
+        self._board = dict(other._board)
+        self._pools = dict(other._pools)
+        self._keys = dict(other._keys)
+
     def _pool(self, number):
         if not is_number(number) or number not in self._pools:
             raise NoPool(number)

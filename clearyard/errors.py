@@ -4,6 +4,10 @@
 class YardError(ValueError):
     """What all refusals are under."""
 
+    def word(self):
+        """Its class in small letters."""
+        return self.__class__.__name__.lower()
+
 
 class NoName(YardError):
     """Of what is no name, or of one that can't stand there."""

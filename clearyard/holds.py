@@ -72,6 +72,11 @@ class Holds:
                 told[number] = (payer, payee, pots[number], until)
         return told
 
+    def stand_as(self, other):
+        """From now on it stands as another one, at a ledger that stands as the other's."""
+        self._now = other._now
+        self._held = dict(other._held)
+
     def _left(self, number):
         if not is_number(number) or number not in self._held:
             raise NoPot(number)

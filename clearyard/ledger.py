@@ -109,12 +109,16 @@ class Ledger:
     def twin(self):
         """A ledger that stands alike, led by its own deeds from then on."""
         other = Ledger()
-        other._free = dict(self._free)
-        other._pots = dict(self._pots)
-        other._rows = list(self._rows)
-        other._total = self._total
-        other._newest = self._newest
+        other.stand_as(self)
         return other
+
+    def stand_as(self, other):
+        """From now on it stands as another one."""
+        self._free = dict(other._free)
+        self._pots = dict(other._pots)
+        self._rows = list(other._rows)
+        self._total = other._total
+        self._newest = other._newest
 
     def __len__(self):
         return len(self._rows)

@@ -5,7 +5,7 @@ from clearyard.errors import NoMove, NoSeal, NoState, NotNow
 from clearyard.moves import is_move, led_to, mover, promise_of
 from clearyard.seals import has_seals, lock_of, seal_of
 from clearyard.states import are_stakes, first_state, is_party, state_text, worth
-from clearyard.words import is_count, is_digest, is_key, is_number, is_secret
+from clearyard.words import is_alike, is_count, is_digest, is_key, is_number, is_secret
 
 # How many ticks a promise must have left when it is given, and a secret to be shown in time.
 TICKS_TO_GIVE = 4
@@ -43,7 +43,7 @@ class Partner:
         """Offers the state that a move leads to: the message."""
         if self._waiting is not None or mover(self._agreed) != self._party:
             raise NotNow()
-        state = led_to(self._agreed, self._party, move, self._digest)
+        state = self._own_led_to(move)
         if state is None:
             raise NoMove()
         if not self._may_offer(move, now):
@@ -55,7 +55,7 @@ class Partner:
 
     def hear(self, message, pools, board, now):
         """Hears a message: the reply to an offer, "agreed" of what was waiting, None of all else."""
-        if self._came is not None and _is_alike(message, self._came):
+        if self._came is not None and is_alike(message, self._came):
             return self._reply()
         if _is_message(message, "offer", 4):
             return self._hear_offer(message, pools, board, now)
@@ -105,13 +105,17 @@ class Partner:
         """A partner that stands alike, and goes on by itself."""
         _, pool, _, x, y, _ = self._first
         other = Partner(pool, self._party, x, y, self._key, self._good, self._digest)
-        other._agreed = self._agreed
-        other._seals = self._seals
-        other._came = self._came
-        other._offer = self._offer
-        other._waiting = self._waiting
-        other._known = dict(self._known)
+        other.stand_as(self)
         return other
+
+    def stand_as(self, other):
+        """From now on it stands as another one of the same party of the same pool."""
+        self._agreed = other._agreed
+        self._seals = other._seals
+        self._came = other._came
+        self._offer = other._offer
+        self._waiting = other._waiting
+        self._known = dict(other._known)
 
     def answer(self, pools, board, now):
         """What is to be done at the court now, in order."""
@@ -127,6 +131,29 @@ class Partner:
             if secret not in board and locks and lock_of(secret, self._digest) in locks:
                 deeds.append(("show", secret))
         return deeds
+
+    def party(self):
+        """Which party of its pool it is."""
+        return self._party
+
+    def may_lead(self, move, now):
+        """Whether a move of its own leads on from the agreed state, and may be offered at this time."""
+        return self._own_led_to(move) is not None and self._may_offer(move, now)
+
+    def shown(self, promise, board):
+        """The least secret of a promise's lock that was shown ahead of its until, None."""
+        return opener(board, promise[3], promise[4], self._digest)
+
+    def secret_of(self, lock):
+        """The least secret that it knows of a lock, None."""
+        for secret in self.knows():
+            if lock_of(secret, self._digest) == lock:
+                return secret
+        return None
+
+    def _own_led_to(self, move):
+        """The state that a move of its own leads the agreed one to, None where there is none."""
+        return led_to(self._agreed, self._party, move, self._digest)
 
     def _seal(self, state):
         return seal_of(state, self._key, self._digest)
@@ -187,10 +214,10 @@ class Partner:
         if word == "give":
             return now + TICKS_TO_GIVE <= move[4]
         if word == "claim":
-            return self._is_in_time(move, now) or self._is_opened(self._promise(move), board)
+            return self._is_in_time(move, now) or self.shown(self._promise(move), board) is not None
         if word == "late":
             promise = self._promise(move)
-            return promise[4] <= now and not self._is_opened(promise, board)
+            return promise[4] <= now and self.shown(promise, board) is None
         return True
 
     def _promise(self, move):
@@ -202,24 +229,17 @@ class Partner:
         """Whether a secret that is claimed by may still be shown."""
         return now + TICKS_TO_SHOW <= self._promise(move)[4]
 
-    def _is_opened(self, promise, board):
-        """Whether a secret of a promise's lock was shown ahead of its until."""
-        return opener(board, promise[3], promise[4], self._digest) is not None
-
-    def _knows_one(self, lock):
-        return any([lock_of(secret, self._digest) == lock for secret in self.knows()])
-
     def _sure_of_promises(self, state, board, now):
         return sum([promise[2] for promise in state[5] if self._is_sure(promise, board, now)])
 
     def _is_sure(self, promise, board, now):
         """Whether what was promised is this party's in the end, whatever the other one does."""
         _, by, _, lock, until = promise
-        if self._is_opened(promise, board):
+        if self.shown(promise, board) is not None:
             return by != self._party
         if by == self._party:
             return until <= now
-        return now + TICKS_TO_SHOW <= until and self._knows_one(lock)
+        return now + TICKS_TO_SHOW <= until and self.secret_of(lock) is not None
 
     def _locks_to_show(self, states, now):
         """The locks of promises to it of which it is high time to show a secret."""
@@ -229,11 +249,6 @@ class Partner:
                 if by != self._party and now < until <= now + TICKS_TO_SHOW:
                     locks[lock] = True
         return locks
-
-
-def _is_alike(one, other):
-    """Whether two things are the same down to their kinds, which == doesn't tell apart."""
-    return one == other and repr(one) == repr(other)
 
 
 def _is_message(thing, word, many):
@@ -288,7 +303,7 @@ def _offer_again(partner, offered):
     """Offers once more what waits: whether it can be."""
     if offered is None:
         return True
-    state = led_to(partner._agreed, partner._party, offered, partner._digest)
+    state = partner._own_led_to(offered)
     # No time is 4 ticks ahead of one that is less than that.
     if state is None or offered[0] == "give" and offered[4] < TICKS_TO_GIVE:
         return False

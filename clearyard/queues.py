@@ -57,6 +57,11 @@ class Queue:
         for number in numbers:
             del self._orders[number]
 
+    def stand_as(self, other):
+        """From now on it stands as another one."""
+        self._orders = dict(other._orders)
+        self._newest = other._newest
+
     def _look_for(self, number):
         if not is_number(number) or number not in self._orders:
             raise NoOrder(number)

@@ -17,7 +17,7 @@ def seal_of(state, key, digest):
     text = state_text(state)
     if not is_key(key):
         raise NoSeal()
-    return digest(_sealed_text(text, key))
+    return digest(sealed_text(text, key))
 
 
 def is_sealed(thing, keys, digest):
@@ -39,8 +39,9 @@ def are_seals(text, seals, keys, digest):
             return False
     if not all([is_digest(seal) for seal in seals]) or not all([is_key(key) for key in keys]):
         return False
-    return all([digest(_sealed_text(text, key)) == seal for seal, key in zip(seals, keys)])
+    return all([digest(sealed_text(text, key)) == seal for seal, key in zip(seals, keys)])
 
 
-def _sealed_text(text, key):
+def sealed_text(text, key):
+    """The text of which the digest is a text's seal by a key."""
     return key + " " + text

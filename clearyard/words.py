@@ -76,6 +76,11 @@ def is_list(thing):
     return isinstance(thing, (list, tuple))
 
 
+def is_alike(one, other):
+    """Whether two things are the same down to their kinds, which == doesn't tell apart."""
+    return one == other and repr(one) == repr(other)
+
+
 def is_pair(thing):
     """Whether thing is a pair: a tuple, for only where a list is told may either stand."""
     return isinstance(thing, tuple) and len(thing) == 2
