@@ -32,8 +32,8 @@ def shows_cheapest(edges, payer, payee, amount, told):
         return False
     way, needs = told
     first = _first_edge(edges, payer, needs)
-    if way is None or first is None:
-        return way is None and first is None
+    if first is None:
+        return way is None
     return _is_way(edges, payer, payee, amount, way) and way[0][2] == needs[first[1]]
 
 
@@ -106,7 +106,7 @@ def _are_needs(edges, payer, payee, amount, needs):
         return False
     if not all([is_number(needs[name]) for name in needs]) or list(needs) != sorted(needs):
         return False
-    if payer in needs or needs.get(payee, 0) != amount:
+    if payee not in needs or needs[payee] != amount:
         return False
     asks = [edge for edge in edges if edge[0] not in (payer, payee) and _carries(edge, needs)]
     if not all([edge[0] in needs and needs[edge[0]] <= _asked_by(edge, needs) for edge in asks]):
@@ -126,7 +126,7 @@ def _all_reach(payee, needs, edges):
 
 def _is_way(edges, payer, payee, amount, way):
     """Whether way is a list of what goes over edges, from payer to payee, no name twice."""
-    if not isinstance(way, list) or len(way) == 0 or not all([_is_step(step) for step in way]):
+    if not isinstance(way, list) or not all([_is_step(step) for step in way]):
         return False
     names = [payer, *[step[1] for step in way]]
     if names[-1] != payee or len(set(names)) != len(names):

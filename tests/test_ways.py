@@ -258,6 +258,8 @@ class Shows(Case):
     def test_a_dearer_one(self):
         self.assertFalse(self.shown([("ann", "bob", 13), ("bob", "dan", 11), ("dan", "eve", 11), ("eve", "fay", 10)], self.needs))
         self.assertFalse(self.shown([("ann", "cid", 13), ("cid", "dan", 11), ("dan", "eve", 11), ("eve", "fay", 10)], self.needs))
+        # Though the needs are told by just that way.
+        self.assertFalse(self.shown([("ann", "cid", 13), ("cid", "dan", 11), ("dan", "eve", 11), ("eve", "fay", 10)], {**self.needs, "cid": 13}))
         # bob to fay has no room of 10.
         self.assertFalse(self.shown([("ann", "bob", 10), ("bob", "fay", 10)], self.needs))
 
@@ -294,10 +296,28 @@ class Shows(Case):
         self.assertFalse(shows_cheapest(edges, "ann", "bob", 1, ([("ann", "bob", 1)], {"bob": True})))
         self.assertFalse(shows_cheapest(edges, "ann", "bob", 1, ([("ann", "bob", True)], {"bob": 1})))
 
+    def test_as_cheap_without_room(self):
+        edges = [("ann", "bob", 50, 0, 0), ("ann", "cid", 50, 0, 0), ("bob", "dan", 50, 1, 0), ("cid", "dan", 4, 1, 0), ("dan", "eve", 50, 0, 0)]
+        needs = {"bob": 6, "dan": 5, "eve": 5}
+        told = ([("ann", "bob", 6), ("bob", "dan", 5), ("dan", "eve", 5)], needs)
+        self.assertEqual(cheapest(edges, "ann", "eve", 5), told)
+        self.assertTrue(shows_cheapest(edges, "ann", "eve", 5, told))
+        self.assertFalse(shows_cheapest(edges, "ann", "eve", 5, ([("ann", "cid", 6), ("cid", "dan", 5), ("dan", "eve", 5)], needs)))
+        self.assertFalse(shows_cheapest(edges, "ann", "eve", 5, (told[0], {"bob": 6, "cid": 6, "dan": 5, "eve": 5})))
+
+    def test_a_way_that_ends_or_begins_elsewhere(self):
+        edges = [("ann", "bob", 50, 0, 0), ("bob", "cid", 50, 0, 0), ("cid", "dan", 50, 0, 0), ("zoe", "ann", 50, 0, 0)]
+        needs, way = {"bob": 5, "cid": 5, "dan": 5}, [("ann", "bob", 5), ("bob", "cid", 5), ("cid", "dan", 5)]
+        self.assertTrue(shows_cheapest(edges, "ann", "dan", 5, (way, needs)))
+        for other in (way[:1], way[:2], way[1:], way[2:], [("zoe", "ann", 5), *way], [way[0], way[2]], []):
+            self.assertFalse(shows_cheapest(edges, "ann", "dan", 5, (other, needs)))
+
     def test_a_ring_that_stands_by_itself_alone(self):
         """In a ring without fees each name's need may stand by the next one's, with no way to payee by any of it."""
         edges = [("ann", "bob", 9, 0, 0), ("bob", "cid", 9, 0, 0), ("cid", "bob", 9, 0, 0)]
         self.assertTrue(shows_cheapest(edges, "ann", "dan", 5, (None, {"dan": 5})))
+        for need in (1, 5, 9):
+            self.assertFalse(shows_cheapest(edges[1:], "ann", "dan", 5, (None, {"bob": need, "cid": need, "dan": 5})))
         for need in (1, 4, 5, 6, 9, 10):
             for way in (None, [("ann", "bob", need), ("bob", "dan", 5)]):
                 self.assertFalse(shows_cheapest(edges, "ann", "dan", 5, (way, {"bob": need, "cid": need, "dan": 5})))
@@ -312,6 +332,7 @@ class Shows(Case):
             for other in [
                 *ODD, 0, step[:2], (*step, 1), list(step), (step[1], step[0], step[2]), (*step[:2], step[2] + 1), (*step[:2], step[2] - 1), (*step[:2], None),
                 (*step[:2], str(step[2])), (step[0], "zoe", step[2]), ("zoe", *step[1:]), (None, *step[1:]), (step[0], None, step[2]), (["ann"], *step[1:]),
+                (step[0], ["bob"], step[2]), (step[0], {}, step[2]), (step[0], step[2], step[1]),
             ]:
                 self.assertFalse(self.shown([*self.way[:at], other, *self.way[at + 1:]], self.needs))
             self.assertFalse(self.shown([*self.way[:at], *self.way[at + 1:]], self.needs))
