@@ -69,6 +69,6 @@ def _is_round(thing, there, orders):
 
 def _is_like(one, other):
     """Whether two rounds are the same but for their papers."""
-    if not isinstance(one[4], dict) or one[4] != other[4]:
+    if one[4] != other[4]:
         return False
     return is_alike((*one[:4], sorted(one[4].items())), (*other[:4], sorted(other[4].items())))

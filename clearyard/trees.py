@@ -24,7 +24,7 @@ class Tree:
 
     def share(self, name):
         """What is beside, from name's leaf up."""
-        if not is_name(name) or name not in self._names:
+        if name not in self._names:
             raise NoName(name)
         at = self._names.index(name)
         told = []
@@ -63,7 +63,7 @@ def _is_sum(thing):
 def _is_beside(thing):
     if not isinstance(thing, tuple) or len(thing) != 3:
         return False
-    return isinstance(thing[0], str) and thing[0] in ("left", "right") and _is_sum(thing[1:])
+    return thing[0] in ("left", "right") and _is_sum(thing[1:])
 
 
 def _leaf(name, number, digest):

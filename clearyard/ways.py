@@ -137,7 +137,7 @@ def _is_way(edges, payer, payee, amount, way):
 def _is_step(thing):
     if not isinstance(thing, tuple) or len(thing) != 3:
         return False
-    return is_name(thing[0]) and is_name(thing[1]) and is_number(thing[2])
+    return is_name(thing[1]) and is_number(thing[2])
 
 
 def _is_walked(by_names, names, amount, way):

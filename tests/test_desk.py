@@ -251,6 +251,16 @@ class Digests(DeskCase):
             self.assertNotIn(self.desk.say(row).split(" ")[0], ("refused", "what", "-"), row)
         self.says("judge", "ok")
 
+    def test_the_flaw_that_the_judge_tells(self):
+        """Of a digest that tells otherwise later, which none may: the judge comes to another share there."""
+        later = []
+        self.desk = Desk(lambda text: digest(text + " later" * len(later)))
+        self.says("enter ann anns", "ok", "put ann 50", "ok", "enter bob bobs", "ok", "found ann bob 50 0 5", "1", "show open", "ok", "show shut", "ok")
+        self.says(f"wish ann send 1 10 {OPEN} 20", "ok", "act ann", "1", "arrive 1 1 0", "say", "arrive 1 0 0", "agreed", "ends ann", "1", "tick 4", "0 0", "judge", "ok")
+        self.says("tick 1", "0 2", "judge", "ok", "tick 1", "0 0", "act zoe", "refused noname")
+        later.append(True)
+        self.says("judge", "deed 12", "free bob", "10")
+
     def test_errors_that_are_refusals_by_class_alone(self):
         for error in (NoState(), NoName("ann"), YardError()):
             broken = []

@@ -50,6 +50,7 @@ def others(thing):
             for other in others(part):
                 yield {**thing, key: other}
             yield {other: each for other, each in thing.items() if other != key}
+            yield {**thing, None: 5, 3: part}
         yield {**thing, "zoe": 0}
         yield list(thing.items())
     elif thing.__class__ is int:
